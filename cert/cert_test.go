@@ -525,7 +525,7 @@ func TestP11_1_Plain(t *testing.T) {
 	}
 }
 
-// ladder: each one is above those ahead of it, by View, by Kind, by Round.
+// ladder: each one is above those ahead of it, by View, by whether it is Fallback, by Round.
 func ladder() []api.Cert {
 	return []api.Cert{
 		{Kind: 2, View: math.MinInt, Round: math.MaxInt},
@@ -588,8 +588,8 @@ func TestP11_2_Ladder(t *testing.T) {
 
 // weighed: a second reckoning of a rank, as one big number.
 func weighed(c api.Cert) *big.Int {
-	sum := big.NewInt(int64(c.View))
-	for _, n := range []int{c.Kind, c.Round} {
+	sum, above := big.NewInt(int64(c.View)), map[int]int{api.Fallback: 1}
+	for _, n := range []int{above[c.Kind], c.Round} {
 		// So far apart that no number reaches into the one ahead of it.
 		sum.Lsh(sum, 70)
 		sum.Add(sum, big.NewInt(int64(n)))
@@ -621,7 +621,7 @@ func TestP11_2_AnyTwo(t *testing.T) {
 	var l []api.Cert
 	ends := []int{math.MinInt, -1, 0, 1, 2, 1 << 32, math.MaxInt}
 	for _, view := range ends {
-		for kind := range 3 {
+		for _, kind := range []int{math.MinInt, -2, -1, 0, 1, 2, 3, 4, 1<<32 + 2, math.MaxInt} {
 			for _, round := range ends {
 				l = append(l, api.Cert{Kind: kind, View: view, Round: round, Block: kind, Height: 3 - kind})
 			}
@@ -639,18 +639,42 @@ func TestP11_2_AnyTwo(t *testing.T) {
 	}
 }
 
-// TestP11_2_OfAnotherKind: kinds that are none, too, rank by their numbers.
+// TestP11_2_OfOneView: where neither is Fallback, the Round alone ranks; where it is the same, Max tells the first one.
+func TestP11_2_OfOneView(t *testing.T) {
+	for _, c := range []struct {
+		a, b api.Cert
+		want int
+	}{
+		{api.Cert{View: 3}, api.Cert{Kind: 1, View: 3}, 0},
+		{api.Cert{View: 3, Round: 9}, api.Cert{Kind: 1, View: 3, Round: 1}, 1},
+		{api.Cert{View: 3, Round: 1}, api.Cert{Kind: 1, View: 3, Round: 9}, -1},
+		{api.Cert{Kind: 3, View: 3}, api.Cert{Kind: 1, View: 3}, 0},
+		{api.Cert{Kind: 3, View: 3, Round: 9}, api.Cert{Kind: 2, View: 3, Round: 1}, -1},
+		{api.Cert{Kind: -1, View: 3, Round: 9}, api.Cert{View: 3, Round: 1}, 1},
+		{api.Cert{Kind: 2, View: 3, Round: 9}, api.Cert{View: 3, Round: 10}, 1},
+	} {
+		if n, turned := cert.Cmp(c.a, c.b), cert.Cmp(c.b, c.a); n != c.want || turned != -c.want {
+			t.Errorf("Cmp(%+v, %+v): %d, turned round %d, not %d", c.a, c.b, n, turned, c.want)
+		}
+		ranked(t, c.a, c.b)
+	}
+}
+
+// TestP11_2_OfAnotherKind: Fallback stands above all other kinds, and these are of one height, kinds that are none too.
 func TestP11_2_OfAnotherKind(t *testing.T) {
-	kinds := []int{math.MinInt, -1<<32 + 2, -1, 0, 1, 2, 3, 1 << 31, 1 << 32, math.MaxInt}
-	for i, x := range kinds {
-		for k, y := range kinds {
-			a, b := api.Cert{Kind: x, View: 3, Round: len(kinds) - i}, api.Cert{Kind: y, View: 3, Round: len(kinds) - k}
-			ranked(t, a, b)
-			if (i < k) != (cert.Cmp(a, b) < 0) {
-				t.Errorf("Cmp of the kinds %d, %d: %d", x, y, cert.Cmp(a, b))
+	kinds := []int{math.MinInt, -1<<32 + 2, -2, -1, 0, 1, 3, 4, 1 << 31, 1 << 32, 1<<32 + 1, 1<<32 + 2, math.MaxInt}
+	for _, x := range kinds {
+		for _, y := range kinds {
+			low, same := api.Cert{Kind: x, View: 3, Round: 4}, api.Cert{Kind: y, View: 3, Round: 4, Block: 5, Signers: 7}
+			if n := cert.Cmp(low, same); n != 0 || cert.Max(low, same) != low {
+				t.Errorf("Cmp of the kinds %d, %d: %d", x, y, n)
 			}
-			b.View = 2
-			ranked(t, a, b)
+			for _, high := range []api.Cert{{Kind: y, View: 3, Round: 5}, {Kind: y, View: 4, Round: 3}, {Kind: api.Fallback, View: 3, Round: 3}} {
+				if n := cert.Cmp(low, high); n != -1 || cert.Max(low, high) != high {
+					t.Errorf("Cmp(%+v, %+v): %d", low, high, n)
+				}
+				ranked(t, high, low)
+			}
 		}
 	}
 }
@@ -1018,7 +1042,7 @@ func TestP11_4_WhatIsTakenIsWrittenSo(t *testing.T) {
 func TestP11_4_CmpIsAnOrder(t *testing.T) {
 	l := append(ladder(), aRegular(), aFallback(), anEndorsed(), api.Cert{View: 1, Round: 3}, api.Cert{Kind: 3, View: 1}, api.Cert{Kind: -1, View: 3, Round: 9})
 	for view := range 3 {
-		for kind := range 3 {
+		for kind := -1; kind <= 4; kind++ {
 			for round := range 3 {
 				l = append(l, api.Cert{Kind: kind, View: view, Round: round, Block: kind + round})
 			}
